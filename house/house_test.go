@@ -315,15 +315,19 @@ func TestOrder(t *testing.T) {
 	for _, a := range []mat.Mat[step]{of[step](3, "a", "b", "C", "D", "e", "f", "g", "H", "i"), of[step](3, "A", "b", "c", "d", "e", "f", "g", "h", "i", "j", "k", "l")} {
 		done = nil
 		want := folded(a)
-		// Products and sums are left out: what a Dot does first of these is said in its own layer.
-		order := slices.DeleteFunc(slices.Clone(done), func(s step) bool { return strings.ContainsRune("+*", outer(s)) })
+		order := ends(done)
 		done = nil
 		told(t, "Fold", of(3, want...))(house.Fold(a))
-		like(t, "the order of Fold", found(order), order)
+		like(t, "the order of Fold", ends(done), order)
 		if len(order) < 20 {
 			t.Error("so few steps:", len(order))
 		}
 	}
+}
+
+// ends are steps but for products and sums: what a Dot does first of these is said in its own layer.
+func ends(steps []step) []step {
+	return slices.DeleteFunc(slices.Clone(steps), func(s step) bool { return strings.ContainsRune("+*", outer(s)) })
 }
 
 // outer is the sign of what was done last in a step; a space, of a Neg and a Root.
